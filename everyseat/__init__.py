@@ -1,0 +1,1 @@
+"""Everyseat: worths from every seat of a tree."""

@@ -1,0 +1,168 @@
+"""What the tests share: checks of what is told and refused, trees and rules to try, and a second reckoning."""
+
+import copy
+import itertools
+import unittest
+
+from everyseat import errors
+
+FAR = 10 ** 29 + 7
+PAIRS = ("plus", "less", "times", "most", "least")
+ERROR_NAMES = ("NoTree", "NoPlace", "NoOrder", "NoRule", "NoPaper",
+               "NoName", "NoLength", "NoTie", "NoText", "NoForm")
+
+OWN, TIE, SO0, SO1, MORE0, MORE1 = ("own",), ("tie",), ("so", 0), ("so", 1), ("more", 0), ("more", 1)
+
+
+def number(n):
+    return ("number", n)
+
+
+def lists_in(value):
+    """All lists in a value, itself too."""
+    found = [value] if isinstance(value, list) else []
+    if isinstance(value, (list, tuple)):
+        for item in value:
+            found.extend(lists_in(item))
+    return found
+
+
+class SeatCase(unittest.TestCase):
+    """Each check also sees that nothing handed in was changed and that nothing told is kept."""
+
+    def same(self, told, expected):
+        # By their texts, for True == 1, but a whole number is no truth.
+        self.assertEqual(repr(told), repr(expected))
+
+    def tells(self, expected, call, *handed):
+        before = copy.deepcopy(handed)
+        first = call(*handed)
+        self.same(first, expected)
+        self.same(handed, before)
+        self.shares_nothing(first, handed)
+        again = call(*handed)
+        self.same(again, expected)
+        for one in lists_in(again):
+            one.append("spoilt")
+        self.same(first, expected)
+        self.same(call(*handed), expected)
+
+    def shares_nothing(self, told, handed):
+        shared = [one for one in lists_in(told) for other in lists_in(handed) if one is other]
+        self.assertEqual(shared, [])
+
+    def refuses(self, name, call, *handed):
+        before = copy.deepcopy(handed)
+        with self.assertRaises(errors.SeatError) as caught:
+            call(*handed)
+        self.assertIs(type(caught.exception), getattr(errors, name))
+        self.same(handed, before)
+
+
+def tree_by_code(code, many):
+    """The labelled tree that a Pruefer code tells, with worths and lengths that are all different."""
+    left = [1 + code.count(place) for place in range(many)]
+    ends = []
+    for place in code:
+        leaf = left.index(1)
+        ends.append((leaf, place))
+        left[leaf] -= 1
+        left[place] -= 1
+    if many > 1:
+        ends.append(tuple(place for place in range(many) if left[place] == 1))
+    ties = sorted((min(pair), max(pair)) for pair in ends)
+    worths = [(place + 2) ** 2 * (-1) ** place for place in range(many)]
+    return worths, [(a, b, 3 ** (at + 1) - 5) for at, (a, b) in enumerate(ties)]
+
+
+def all_trees(most):
+    """Every tree of one up to so many places."""
+    for many in range(1, most + 1):
+        for code in itertools.product(range(many), repeat=max(0, many - 2)):
+            yield tree_by_code(code, many)
+
+
+def path_tree(many):
+    return [7 - place for place in range(many)], [(at, at + 1, at * at - 9) for at in range(many - 1)]
+
+
+def star_tree(many, hub):
+    pairs = sorted((min(hub, place), max(hub, place)) for place in range(many) if place != hub)
+    return [place * 3 - 20 for place in range(many)], [(a, b, a * 5 - b) for a, b in pairs]
+
+
+def bushy_tree(many):
+    """Each place is tied to one further ahead; worths and lengths of thirty figures, also below 0."""
+    ties = [((place * place + 3) // 2 % place, place, (place - many // 2) * FAR) for place in range(1, many)]
+    return [(place - many // 3) * FAR - place for place in range(many)], sorted(ties)
+
+
+def large_trees():
+    return [path_tree(40), star_tree(40, 0), star_tree(40, 17), bushy_tree(40), bushy_tree(23)]
+
+
+def neighbours_by_hand(tree, place):
+    return [other for other in range(len(tree[0]))
+            if any({a, b} == {place, other} for a, b, _ in tree[1]) and other != place]
+
+
+def length_by_hand(tree, a, b):
+    return next(length for low, high, length in tree[1] if {low, high} == {a, b})
+
+
+def sum_by_hand(told, own, tie, so, more):
+    word, *rest = told
+    if word in PAIRS:
+        x, y = (sum_by_hand(part, own, tie, so, more) for part in rest)
+        return {"plus": x + y, "less": x - y, "times": x * y,
+                "most": x if x > y else y, "least": x if x < y else y}[word]
+    return {"number": lambda: rest[0], "own": lambda: own, "tie": lambda: tie,
+            "so": lambda: so[rest[0]], "more": lambda: more[rest[0]]}[word]()
+
+
+def place_row_by_hand(tree, rule, place, but):
+    begin, _, join, _ = rule
+    own = tree[0][place]
+    row = [sum_by_hand(part, own, None, None, None) for part in begin]
+    for near in neighbours_by_hand(tree, place):
+        if near != but:
+            more = branch_row_by_hand(tree, rule, place, near)
+            row = [sum_by_hand(part, own, None, row, more) for part in join]
+    return row
+
+
+def branch_row_by_hand(tree, rule, a, b):
+    more = place_row_by_hand(tree, rule, b, a)
+    return [sum_by_hand(part, tree[0][b], length_by_hand(tree, a, b), None, more) for part in rule[1]]
+
+
+def seat_by_hand(tree, rule, place):
+    return sum_by_hand(rule[3], tree[0][place], None, place_row_by_hand(tree, rule, place, None), None)
+
+
+# The row's figures stand one behind the other in the order in which neighbours are joined.
+FIGURES = ([OWN], [MORE0], [("plus", ("times", SO0, number(10)), MORE0)], SO0)
+
+# The sum of the lengths of all ways, and how many places there are.
+WAYS = ([number(0), number(1)],
+        [("plus", MORE0, ("times", TIE, MORE1)), MORE1],
+        [("plus", SO0, MORE0), ("plus", SO1, MORE1)],
+        SO0)
+
+# The greatest length of a way from the seat.
+FARTHEST = ([number(0)], [("plus", MORE0, TIE)], [("most", SO0, MORE0)], SO0)
+
+# Every word that may stand in each list, and an outcome that hangs on the order of the neighbours.
+MIXED = ([OWN, ("less", number(5), OWN), ("times", OWN, number(-2))],
+         [("less", MORE1, TIE), ("plus", ("more", 2), OWN), ("most", MORE0, ("times", TIE, number(2)))],
+         [("less", ("more", 1), SO0), ("plus", SO0, ("least", ("so", 2), MORE0)),
+          ("most", ("plus", ("so", 1), ("more", 2)), ("less", OWN, SO0))],
+         ("plus", ("times", SO0, number(3)), ("less", ("so", 2), ("least", OWN, SO1))))
+
+# Every new number is an old one of another place: wrong as soon as one is reckoned from a new one.
+EXCHANGED = ([number(1), OWN],
+             [("plus", MORE1, TIE), MORE0],
+             [("plus", SO1, MORE0), ("less", SO0, MORE1)],
+             ("less", ("times", number(1000), SO0), SO1))
+
+RULES = [FIGURES, WAYS, FARTHEST, MIXED, EXCHANGED]

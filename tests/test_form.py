@@ -1,0 +1,85 @@
+"""The form of the package's files, as far as it can be seen by reading them."""
+
+import ast
+import pathlib
+import re
+import unittest
+
+PACKAGE = pathlib.Path(__file__).resolve().parent.parent / "everyseat"
+FILES = sorted(PACKAGE.glob("*.py"))
+
+BUILTINS = set(
+    "len range enumerate zip min max sum abs sorted reversed int str bool bytes list tuple dict set "
+    "isinstance ord repr any all divmod Exception ValueError TypeError KeyError IndexError LookupError "
+    "ZeroDivisionError ArithmeticError OverflowError RuntimeError NotImplementedError AttributeError "
+    "StopIteration".split())
+METHODS = set(
+    "append clear copy count endswith extend find get index insert isalnum isalpha isdigit islower isspace "
+    "isupper items join keys ljust lower lstrip partition pop remove replace reverse rfind rjust rpartition "
+    "rsplit rstrip setdefault split splitlines startswith strip update upper values zfill bit_length add "
+    "discard sort".split())
+BARRED_WORDS = re.compile(
+    r"\b(type|typing|typing_extensions|enum|Enum|IntEnum|StrEnum|Flag|IntFlag|Generic|Protocol|ABC|ABCMeta|"
+    r"namedtuple|NamedTuple|TypedDict|TYPE_CHECKING|abstractmethod)\b|dataclass|overload|contextmanager")
+
+
+def trees():
+    return [(path.name, ast.parse(path.read_text())) for path in FILES]
+
+
+class Form(unittest.TestCase):
+    def test_the_folder_holds_just_the_files(self):
+        found = [path.name for path in PACKAGE.iterdir() if path.name != "__pycache__"]
+        self.assertEqual(sorted(found), [path.name for path in FILES])
+        for name in found:
+            self.assertRegex(name, r"^(__init__|[a-z][a-z0-9_]*)\.py$")
+
+    def test_signs_lines_and_words(self):
+        for path in FILES:
+            text = path.read_bytes().decode("ascii")
+            self.assertFalse(re.search(r"[^ -~\n]", text), path.name)
+            self.assertFalse(BARRED_WORDS.search(text), path.name)
+            self.assertLessEqual(len(text.split("\n")), 400, path.name)
+            self.assertLessEqual(max(map(len, text.split("\n"))), 120, path.name)
+
+    def test_functions_are_short(self):
+        for name, tree in trees():
+            for node in ast.walk(tree):
+                if isinstance(node, ast.FunctionDef):
+                    self.assertLessEqual(node.end_lineno - node.lineno + 1, 40, (name, node.name))
+
+    def test_imports_are_of_the_package(self):
+        for name, tree in trees():
+            for node in ast.walk(tree):
+                self.assertNotIsInstance(node, ast.Import, name)
+                if isinstance(node, ast.ImportFrom):
+                    self.assertRegex(node.module, r"^everyseat\.[a-z_]+$", name)
+                    self.assertEqual(node.level, 0, name)
+
+    def test_statements_and_values(self):
+        for name, tree in trees():
+            for node in ast.walk(tree):
+                self.assertNotIsInstance(node, (ast.Global, ast.AsyncFunctionDef, ast.Div), name)
+                if isinstance(node, ast.Constant):
+                    self.assertNotIsInstance(node.value, (float, complex), name)
+
+    def test_names_are_plain(self):
+        for name, tree in trees():
+            for node in ast.walk(tree):
+                word = getattr(node, "id", None) or getattr(node, "arg", None)
+                if isinstance(word, str):
+                    self.assertRegex(word, r"^[A-Za-z][A-Za-z0-9_]*$", name)
+
+    def test_what_is_called_is_own_or_allowed(self):
+        own = {node.name for _, tree in trees() for node in ast.walk(tree)
+               if isinstance(node, (ast.FunctionDef, ast.ClassDef))}
+        for name, tree in trees():
+            for node in ast.walk(tree):
+                if isinstance(node, ast.Call) and isinstance(node.func, ast.Name):
+                    self.assertIn(node.func.id, BUILTINS | own, name)
+                if isinstance(node, ast.Call) and isinstance(node.func, ast.Attribute):
+                    self.assertIn(node.func.attr, METHODS | own, name)
+
+
+if __name__ == "__main__":
+    unittest.main()
