@@ -2,7 +2,7 @@
 
 from everyseat.errors import NoPlace
 from everyseat.rules import need_rule, sum_at
-from everyseat.trees import need_place, steps_from, tie_lengths, tied_to
+from everyseat.trees import need_place, steps_from, steps_to_others, tie_lengths, tied_to
 
 # Only the sums of over may ask for the tie: to all others any number can be handed.
 NO_TIE = 0
@@ -53,6 +53,12 @@ def rows_along(tree, rule, steps):
     return rows
 
 
+def seat_by_rows(tree, rule, place, rows):
+    """What the rule tells with this place as the root, by the rows of the branches seen from it."""
+    row = place_row(tree, rule, place, None, rows)
+    return sum_at(rule[3], tree[0][place], NO_TIE, row, [])
+
+
 def branch_row(tree, rule, branch):
     """The row of one branch."""
     need_rule(rule)
@@ -66,7 +72,4 @@ def seat_worth(tree, rule, place):
     """What the rule tells with this place as the root."""
     need_rule(rule)
     need_place(tree, place)
-    # The first step comes from nowhere: it is the seat itself and no branch.
-    steps = steps_from(tree, None, place)[1:]
-    row = place_row(tree, rule, place, None, rows_along(tree, rule, steps))
-    return sum_at(rule[3], tree[0][place], NO_TIE, row, [])
+    return seat_by_rows(tree, rule, place, rows_along(tree, rule, steps_to_others(tree, place)))

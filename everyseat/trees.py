@@ -1,6 +1,6 @@
 """Trees: places with worths, and the ties between them with lengths."""
 
-from everyseat.errors import NoOrder, NoPlace, NoTree
+from everyseat.errors import NoLength, NoOrder, NoPlace, NoTree
 
 
 def tree_of(worths, ties):
@@ -26,6 +26,12 @@ def need_place(tree, place):
     """Refuses a number that is no place."""
     if not 0 <= place < len(tree[0]):
         raise NoPlace("this number is no place of the tree")
+
+
+def need_lengths(tree):
+    """Refuses a tree with a length below 0."""
+    if any([length < 0 for a, b, length in tree[1]]):
+        raise NoLength("the tree has a length below 0")
 
 
 def tied_to(tree, place):
@@ -64,11 +70,27 @@ def steps_from(tree, before, start):
     return steps
 
 
+def steps_to_others(tree, start):
+    """The steps by which all other places are come to from start; each is a branch."""
+    # The first step comes from nowhere: it is the start itself and no branch.
+    return steps_from(tree, None, start)[1:]
+
+
+def lengths_from(tree, start):
+    """The length of the way from start to each place, place by place."""
+    ties = tie_lengths(tree)
+    lengths = [0 for worth in tree[0]]
+    for step in steps_to_others(tree, start):
+        before, here = step
+        lengths[here] = lengths[before] + ties[step]
+    return lengths
+
+
 def way_between(tree, one, other):
     """The way from one place to another one: its places and its length."""
     need_place(tree, one)
     need_place(tree, other)
-    come_from = {b: a for a, b in steps_from(tree, None, one)}
+    come_from = {b: a for a, b in steps_to_others(tree, one)}
     places = [other]
     while places[-1] != one:
         places.append(come_from[places[-1]])

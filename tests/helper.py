@@ -40,6 +40,7 @@ class SeatCase(unittest.TestCase):
         self.same(first, expected)
         self.same(handed, before)
         self.shares_nothing(first, handed)
+        self.assertEqual(len({id(one) for one in lists_in(first)}), len(lists_in(first)))
         again = call(*handed)
         self.same(again, expected)
         for one in lists_in(again):
@@ -101,6 +102,69 @@ def large_trees():
     return [path_tree(40), star_tree(40, 0), star_tree(40, 17), bushy_tree(40), bushy_tree(23)]
 
 
+def numbered_anew(tree, order):
+    """The tree whose place k is the one that stands at k in the order."""
+    ties = [(order.index(a), order.index(b), length) for a, b, length in tree[1]]
+    return [tree[0][old] for old in order], sorted((min(a, b), max(a, b), length) for a, b, length in ties)
+
+
+def large_trees_in_other_orders():
+    """The large trees with their places in an order that neither rises nor falls."""
+    trees = large_trees()
+    return [numbered_anew(tree, [(place * 9 + 4) % len(tree[0]) for place in range(len(tree[0]))]) for tree in trees]
+
+
+def with_numbers(tree, worths, lengths):
+    """The tree with these worths and lengths instead, over and over where there are too few."""
+    many = len(tree[0])
+    ties = [(a, b, lengths[at % len(lengths)]) for at, (a, b, _) in enumerate(tree[1])]
+    return [worths[place % len(worths)] for place in range(many)], ties
+
+
+def with_lengths_from_nothing_on(tree):
+    return tree[0], [(a, b, abs(length)) for a, b, length in tree[1]]
+
+
+def varied(tree):
+    """The tree with its own worths and lengths, and with several other ones."""
+    yield tree
+    for worths, lengths in (([0], [0]), ([-1], [-1]), ([-2, 3, 0, -1, 1], [0, 3, -1]), ([1, 1, -1], [1]),
+                            ([0, 2, -2, 2], [2, 0]), ([3, -FAR, FAR, 0], [FAR, -FAR, 1, 0])):
+        yield with_numbers(tree, worths, lengths)
+
+
+def lists_of_places(tree):
+    """Every set of places as a list, rising."""
+    places = range(len(tree[0]))
+    return [list(some) for many in range(len(places) + 1) for some in itertools.combinations(places, many)]
+
+
+def are_apart(tree, places):
+    return not any(a in places and b in places for a, b, _ in tree[1])
+
+
+def hang_together(tree, places):
+    """Whether the places, one at least, can all be come to from the first through these places alone."""
+    reached = places[:1]
+    for here in reached:
+        reached.extend(near for near in neighbours_by_hand(tree, here) if near in places and near not in reached)
+    return bool(places) and len(reached) == len(places)
+
+
+def sum_of_worths(tree, places):
+    return sum(tree[0][place] for place in places)
+
+
+def lengths_by_hand(tree, seat, before=None):
+    """The lengths of the ways from the seat, under the places that they go to."""
+    lengths = {seat: 0}
+    for near in neighbours_by_hand(tree, seat):
+        if near != before:
+            on = lengths_by_hand(tree, near, seat)
+            lengths.update((place, length_by_hand(tree, seat, near) + length) for place, length in on.items())
+    return lengths
+
+
 def neighbours_by_hand(tree, place):
     return [other for other in range(len(tree[0]))
             if any({a, b} == {place, other} for a, b, _ in tree[1]) and other != place]
@@ -136,6 +200,12 @@ def branch_row_by_hand(tree, rule, a, b):
     return [sum_by_hand(part, tree[0][b], length_by_hand(tree, a, b), None, more) for part in rule[1]]
 
 
+def rows_by_hand(tree, rule):
+    pairs = [(a, b) for a, b, _ in tree[1]]
+    branches = sorted(pairs + [(b, a) for a, b in pairs])
+    return [((a, b), branch_row_by_hand(tree, rule, a, b)) for a, b in branches]
+
+
 def seat_by_hand(tree, rule, place):
     return sum_by_hand(rule[3], tree[0][place], None, place_row_by_hand(tree, rule, place, None), None)
 
@@ -166,3 +236,14 @@ EXCHANGED = ([number(1), OWN],
              ("less", ("times", number(1000), SO0), SO1))
 
 RULES = [FIGURES, WAYS, FARTHEST, MIXED, EXCHANGED]
+
+# What is no rule, each for another reason.
+NO_RULES = [([TIE], [OWN], [OWN], OWN),
+            ([OWN], [SO0], [OWN], OWN),
+            ([OWN], [OWN], [TIE], OWN),
+            ([OWN], [OWN], [OWN], MORE0),
+            ([OWN], [("more", -1)], [OWN], OWN),
+            ([OWN], [OWN], [("plus", SO0, SO1)], OWN),
+            ([OWN], [OWN, OWN], [OWN], OWN),
+            ([], [], [], OWN),
+            ([OWN] * 4, [OWN] * 4, [OWN] * 4, OWN)]

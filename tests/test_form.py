@@ -1,6 +1,7 @@
 """The form of the package's files, as far as it can be seen by reading them."""
 
 import ast
+import builtins
 import pathlib
 import re
 import unittest
@@ -69,6 +70,35 @@ class Form(unittest.TestCase):
                 word = getattr(node, "id", None) or getattr(node, "arg", None)
                 if isinstance(word, str):
                     self.assertRegex(word, r"^[A-Za-z][A-Za-z0-9_]*$", name)
+
+    def test_the_module_level_holds_just_values_functions_and_classes(self):
+        for name, tree in trees():
+            self.assertIsInstance(tree.body[0].value.value, str, name)
+            for node in tree.body[1:]:
+                self.assertIsInstance(node, (ast.ImportFrom, ast.Assign, ast.FunctionDef, ast.ClassDef), name)
+                if isinstance(node, ast.Assign):
+                    ast.literal_eval(node.value)
+
+    def test_each_name_has_one_meaning(self):
+        for name, tree in trees():
+            imported = [alias.name for node in tree.body if isinstance(node, ast.ImportFrom) for alias in node.names]
+            defined = [node.name for node in tree.body if isinstance(node, (ast.FunctionDef, ast.ClassDef))]
+            stored = [node.targets[0].id for node in tree.body if isinstance(node, ast.Assign)]
+            self.assertEqual(len(set(imported + defined + stored)), len(imported + defined + stored), name)
+            for node in ast.walk(tree):
+                word = node.arg if isinstance(node, ast.arg) else None
+                if isinstance(node, ast.Name) and isinstance(node.ctx, ast.Store):
+                    word = node.id
+                self.assertNotIn(word, imported + dir(builtins), name)
+
+    def test_no_two_files_import_from_each_other(self):
+        imports = {f"everyseat.{name[:-3]}": {node.module for node in tree.body if isinstance(node, ast.ImportFrom)}
+                   for name, tree in trees()}
+        while imports:
+            free = [module for module in imports if not imports[module] & set(imports)]
+            self.assertTrue(free, imports)
+            for module in free:
+                del imports[module]
 
     def test_what_is_called_is_own_or_allowed(self):
         own = {node.name for _, tree in trees() for node in ast.walk(tree)

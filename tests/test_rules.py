@@ -5,7 +5,7 @@ import unittest
 
 from everyseat.branches import branch_row, seat_worth
 from everyseat.rules import is_rule, need_rule, sum_at
-from tests.helper import FAR, MORE0, OWN, PAIRS, RULES, SO0, TIE, SeatCase, number, sum_by_hand
+from tests.helper import FAR, MORE0, NO_RULES, OWN, PAIRS, RULES, SO0, TIE, SeatCase, number, sum_by_hand
 
 TREE = ([3, 4, 5], [(0, 1, 7), (1, 2, -2)])
 SINGLES = (OWN, TIE, SO0, MORE0)
@@ -110,9 +110,7 @@ class WhatIsARule(SeatCase):
 
 class RulesAheadOfAllElse(SeatCase):
     def test_no_rule_goes_first(self):
-        wrong = [with_sum(0, TIE), with_sum(TOLD, MORE0), with_sum(2, ("so", 1)), with_sum(1, ("more", -1)),
-                 ([], [], [], OWN), ([OWN] * 4, [OWN] * 4, [OWN] * 4, OWN), ([OWN], [OWN, OWN], [OWN], OWN)]
-        for rule in wrong:
+        for rule in NO_RULES:
             for place in (0, 2, -1, 3, FAR, -FAR):
                 self.refuses("NoRule", seat_worth, TREE, rule, place)
             for branch in ((0, 1), (0, 2), (1, 1), (-1, 0), (0, FAR)):
