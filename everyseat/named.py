@@ -1,6 +1,7 @@
 """Named rules: what they tell can be said in plain words."""
 
 from everyseat.errors import NoName
+from everyseat.rules import copied_rule
 
 # A part is what a place and the branches that are joined to it hold.
 RULES = {
@@ -54,8 +55,7 @@ def rule_named(name):
     """The rule that has this name."""
     if name not in RULES:
         raise NoName("no rule has this name")
-    begin, over, join, told = RULES[name]
-    return list(begin), list(over), list(join), told
+    return copied_rule(RULES[name])
 
 
 def rule_names():

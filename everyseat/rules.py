@@ -58,6 +58,12 @@ def need_rule(rule):
         raise NoRule("these sums make no rule")
 
 
+def copied_rule(rule):
+    """The same rule in lists of its own."""
+    begin, over, join, told = rule
+    return list(begin), list(over), list(join), told
+
+
 def pair_at(word, x, y):
     """What a sum of two is, by its word."""
     if word == "plus":

@@ -11,6 +11,12 @@ def tree_of(worths, ties):
     return tree
 
 
+def copied_tree(tree):
+    """The same tree in lists of its own."""
+    worths, ties = tree
+    return list(worths), list(ties)
+
+
 def is_tree(tree):
     """Whether each tie is well told and each place can be come to."""
     worths, ties = tree

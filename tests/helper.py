@@ -2,6 +2,7 @@
 
 import copy
 import itertools
+import re
 import unittest
 
 from everyseat import errors
@@ -200,14 +201,148 @@ def branch_row_by_hand(tree, rule, a, b):
     return [sum_by_hand(part, tree[0][b], length_by_hand(tree, a, b), None, more) for part in rule[1]]
 
 
-def rows_by_hand(tree, rule):
+def branches_by_hand(tree):
     pairs = [(a, b) for a, b, _ in tree[1]]
-    branches = sorted(pairs + [(b, a) for a, b in pairs])
-    return [((a, b), branch_row_by_hand(tree, rule, a, b)) for a, b in branches]
+    return sorted(pairs + [(b, a) for a, b in pairs])
+
+
+def part_by_hand(tree, a, b):
+    """The places that are come to from b without going over the tie to a."""
+    ties = [pair for pair in branches_by_hand(tree) if pair not in ((a, b), (b, a))]
+    part = [b]
+    for here in part:
+        part.extend(other for one, other in ties if one == here and other not in part)
+    return part
+
+
+def rows_by_hand(tree, rule):
+    return [((a, b), branch_row_by_hand(tree, rule, a, b)) for a, b in branches_by_hand(tree)]
 
 
 def seat_by_hand(tree, rule, place):
     return sum_by_hand(rule[3], tree[0][place], None, place_row_by_hand(tree, rule, place, None), None)
+
+
+def seats_by_hand(tree, rule):
+    return [seat_by_hand(tree, rule, place) for place in range(len(tree[0]))]
+
+
+def tree_with_worth(tree, place, worth):
+    return [worth if at == place else old for at, old in enumerate(tree[0])], list(tree[1])
+
+
+def tree_with_length(tree, a, b, length):
+    return list(tree[0]), [(low, high, length if {low, high} == {a, b} else old) for low, high, old in tree[1]]
+
+
+def tree_with_move(tree, a, b, c, d, length):
+    """The worths and sorted ties that come of it, be they a tree or not."""
+    left = [tie for tie in tree[1] if set(tie[:2]) != {a, b}]
+    return list(tree[0]), sorted(left + [(min(c, d), max(c, d), length)])
+
+
+def numbers_in_turn(seed):
+    """Numbers without an order that can be seen, the same ones each time."""
+    state = seed
+    while True:
+        state = (state * 6364136223846793005 + 1442695040888963407) % 2 ** 64
+        yield state // 2 ** 33
+
+
+def holding_place(tree, place):
+    """The branches that hold the change of a worth; below, of a length and of a move."""
+    return [(a, b) for a, b in branches_by_hand(tree) if place in part_by_hand(tree, a, b)]
+
+
+def holding_tie(tree, one, other):
+    return [(a, b) for a, b in branches_by_hand(tree)
+            if {a, b} == {one, other} or {one, other} <= set(part_by_hand(tree, a, b))]
+
+
+def holding_any(tree, places):
+    return [(a, b) for a, b in branches_by_hand(tree) if set(places) & set(part_by_hand(tree, a, b))]
+
+
+def changes_in_turn(tree, turn, many):
+    """Changes one behind the other: what to call, with which numbers, the changed tree, and the branches due."""
+    for _ in range(many):
+        kind, number, worth = next(turn) % 3, next(turn), next(turn) % 31 - 10
+        a, b = branches_by_hand(tree)[number % (2 * len(tree[1]))]
+        sides = [part_by_hand(tree, a, b), part_by_hand(tree, b, a)]
+        c, d = [side[next(turn) % len(side)] for side in sides]
+        if kind == 0:
+            tree = tree_with_worth(tree, a, worth)
+            yield "set_worth", (a, worth), tree, holding_place(tree, a)
+        elif kind == 1:
+            tree = tree_with_length(tree, a, b, worth)
+            yield "set_length", (a, b, worth), tree, holding_tie(tree, a, b)
+        else:
+            tree = tree_with_move(tree, a, b, c, d, worth)
+            yield "move", (a, b, c, d, worth), tree, holding_any(tree, [a, b, c, d])
+
+
+def refusal_of_length(tree, a, b):
+    """The name of the refusal that is due where the length of a tie is set; below, where one is moved."""
+    places = range(len(tree[0]))
+    if a not in places or b not in places:
+        return "NoPlace"
+    return None if b in neighbours_by_hand(tree, a) else "NoTie"
+
+
+def refusal_of_move(tree, a, b, c, d):
+    if refusal_of_length(tree, a, b) == "NoPlace" or refusal_of_length(tree, c, d) == "NoPlace":
+        return "NoPlace"
+    if refusal_of_length(tree, a, b) or c == d:
+        return "NoTie"
+    changed = tree_with_move(tree, a, b, c, d, 1)
+    return None if hang_together(changed, list(range(len(tree[0])))) else "NoTree"
+
+
+NUMBER_FORM = "(?:0|-?[1-9][0-9]*)"
+PLACE_FORM = "(?:0|[1-9][0-9]*)"
+TIE_FORM = f"{PLACE_FORM}-{PLACE_FORM}:{NUMBER_FORM}"
+TREE_FORM = f"{NUMBER_FORM}(?: {NUMBER_FORM})*\n(?:{TIE_FORM}(?: {TIE_FORM})*)?"
+SINGLE_FORM = f"(?<![^ (])(?:own|tie|(?:so|more){PLACE_FORM}|{NUMBER_FORM})(?![^ ),;])"
+RULE_FORM = "begin X(?:, X)*; over X(?:, X)*; join X(?:, X)*; told X"
+
+
+def refusal_of_tree_text(text):
+    """The name of the refusal that is due of a text that is to write a tree; None where it writes one."""
+    if not re.fullmatch(TREE_FORM, text):
+        return "NoText"
+    worths, ties = (row.split() for row in text.split("\n"))
+    ties = [tuple(map(int, re.fullmatch("(.*?)-(.*?):(.*)", tie).groups())) for tie in ties]
+    if ties != sorted(ties):
+        return "NoText"
+    rising = all(a < b < len(worths) for a, b, _ in ties)
+    together = rising and hang_together((worths, ties), list(range(len(worths))))
+    return None if together and len(ties) == len(worths) - 1 else "NoTree"
+
+
+def refusal_of_rule_text(text):
+    """The same of a text that is to write a rule."""
+    bare, shorter = None, "none" if "X" in text else re.sub(SINGLE_FORM, "X", text)
+    while bare != shorter:
+        bare, shorter = shorter, re.sub(r"\(X (?:\+|-|\*|max|min) X\)", "X", shorter)
+    if not re.fullmatch(RULE_FORM, bare):
+        return "NoText"
+    parts = text.split("; ")
+    many = [part.count(", ") + 1 for part in parts]
+    words = [{word for word in re.findall("[a-z]+[0-9]*", part) if word not in ("max", "min")} for part in parts]
+    row = range(min(many[0], 3))
+    so, more = {f"so{i}" for i in row}, {f"more{i}" for i in row}
+    let = [{"begin", "own"}, {"over", "own", "tie"} | more, {"join", "own"} | so | more, {"told", "own"} | so]
+    well_told = all(found <= some for found, some in zip(words, let))
+    return None if well_told and many[0] == many[1] == many[2] <= 3 else "NoRule"
+
+
+def near_texts(text, signs):
+    """All texts that have one sign more, fewer or another one than this."""
+    for at in range(len(text) + 1):
+        yield from (text[:at] + sign + text[at:] for sign in signs)
+    for at in range(len(text)):
+        yield text[:at] + text[at + 1:]
+        yield from (text[:at] + sign + text[at + 1:] for sign in signs if sign != text[at])
 
 
 # The row's figures stand one behind the other in the order in which neighbours are joined.

@@ -110,6 +110,48 @@ class Form(unittest.TestCase):
                 if isinstance(node, ast.Call) and isinstance(node.func, ast.Attribute):
                     self.assertIn(node.func.attr, METHODS | own, name)
 
+    def test_no_name_is_a_method_and_an_attribute(self):
+        methods, stored, read = set(), set(), set()
+        for _, tree in trees():
+            for node in ast.walk(tree):
+                if isinstance(node, ast.ClassDef):
+                    methods.update(part.name for part in node.body if isinstance(part, ast.FunctionDef))
+                    self.assertEqual(node.decorator_list, [])
+                if isinstance(node, ast.Attribute):
+                    (stored if isinstance(node.ctx, ast.Store) else read).add(node.attr)
+        self.assertEqual(methods & stored, set())
+        self.assertEqual(read - stored - methods - METHODS, set())
+        names = [name for kind in (str, int, list, dict, set, tuple, bytes) for name in dir(kind)]
+        self.assertEqual((methods - {"__init__"}) & set(names), set())
+        self.assertEqual(stored & set(names), set())
+
+    def test_no_function_calls_itself(self):
+        for name, tree in trees():
+            for node in ast.walk(tree):
+                if isinstance(node, ast.FunctionDef):
+                    called = [part.func.id for part in ast.walk(node)
+                              if isinstance(part, ast.Call) and isinstance(part.func, ast.Name)]
+                    self.assertNotIn(node.name, called, name)
+
+    def test_comparisons_by_is_and_strings(self):
+        for name, tree in trees():
+            for node in ast.walk(tree):
+                if isinstance(node, ast.Compare) and any(isinstance(op, (ast.Is, ast.IsNot)) for op in node.ops):
+                    self.assertIsNone(node.comparators[0].value, name)
+                if isinstance(node, ast.Constant) and isinstance(node.value, str):
+                    self.assertNotIn("%", node.value, name)
+                if isinstance(node, ast.BinOp) and isinstance(node.op, ast.Pow):
+                    self.assertIn(node.right.value, range(65), name)
+
+    def test_what_is_caught_and_raised_is_own(self):
+        errors = {node.name for name, tree in trees() if name == "errors.py" for node in tree.body[1:]}
+        for name, tree in trees():
+            for node in ast.walk(tree):
+                if isinstance(node, ast.ExceptHandler):
+                    self.assertIn(node.type.id, errors, name)
+                if isinstance(node, ast.Raise):
+                    self.assertIn(node.exc.func.id, errors, name)
+
 
 if __name__ == "__main__":
     unittest.main()
