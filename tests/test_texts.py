@@ -291,7 +291,7 @@ class RulesRefused(SeatCase):
     def test_all_texts_near_to_one(self):
         seen = set()
         for text in (PLAIN, "begin 0, -1; over ((more0 - tie) min 12), more1; join so1, more1; told (so0 * own)"):
-            for near in near_texts(text, " ()+-*,;0123otX\n"):
+            for near in near_texts(text, " ()+-*,;0123otxX\n"):
                 seen.add(refusal_of_rule_text(near))
                 if refusal_of_rule_text(near):
                     self.refuses(refusal_of_rule_text(near), read_rule, near)
